@@ -1,0 +1,116 @@
+"""Judges the sources of the package by those rules of its language that are easily judged."""
+
+import ast
+import builtins
+import unittest
+from pathlib import Path
+
+FOLDER = Path(__file__).resolve().parent.parent / "threetiles"
+LIBRARY = {"math": {"gcd", "lcm", "isqrt", "comb", "perm", "factorial"}}
+CALLED = set(
+    "len range enumerate zip min max sum abs sorted reversed int str bool list tuple dict set isinstance ord "
+    "repr any all divmod".split())
+NAMED = {"ValueError", "NotImplemented", "KeyError"}
+METHODS = {
+    "__init__", "__eq__", "__add__", "__radd__", "__sub__", "__rsub__", "__mul__", "__rmul__", "__neg__"}
+BARRED = set("register mro elements open input law type typing enum id vars dir eval exec super".split())
+
+
+def sources():
+    return sorted(FOLDER.glob("*.py"))
+
+
+def trees():
+    return [(path, ast.parse(path.read_text())) for path in sources()]
+
+
+def functions(tree):
+    return [node for node in ast.walk(tree) if isinstance(node, ast.FunctionDef)]
+
+
+def assigned(function):
+    names = [part.arg for part in function.args.args]
+    for node in ast.walk(function):
+        if isinstance(node, ast.Name) and isinstance(node.ctx, ast.Store):
+            names.append(node.id)
+    return names
+
+
+class TestLanguage(unittest.TestCase):
+    def test_folder_holds_sources_alone(self):
+        for path in FOLDER.iterdir():
+            self.assertTrue(path.suffix == ".py" or path.name == "__pycache__", path)
+
+    def test_sizes_and_signs(self):
+        for path in sources():
+            text = path.read_text()
+            self.assertTrue(all(" " <= sign <= "~" or sign == "\n" for sign in text), path)
+            lines = text.splitlines()
+            self.assertLessEqual(len(lines), 399, path)
+            self.assertLessEqual(max(map(len, lines)), 120, path)
+            for function in functions(ast.parse(text)):
+                self.assertLessEqual(function.end_lineno - function.lineno + 1, 40, function.name)
+
+    def test_imports(self):
+        for path, tree in trees():
+            for node in ast.walk(tree):
+                self.assertNotIsInstance(node, ast.Import, path)
+                if isinstance(node, ast.ImportFrom):
+                    self.assertIn(node, tree.body)
+                    self.assertEqual(node.level, 0)
+                    self.assertTrue(all(part.asname is None for part in node.names))
+                    names = {part.name for part in node.names}
+                    if node.module in LIBRARY:
+                        self.assertLessEqual(names, LIBRARY[node.module])
+                        continue
+                    self.assertTrue(node.module.startswith("threetiles."), path)
+                    other = ast.parse((FOLDER / (node.module.split(".")[1] + ".py")).read_text())
+                    defined = {part.name for part in other.body if hasattr(part, "name")}
+                    for part in other.body:
+                        if isinstance(part, ast.Assign):
+                            defined.add(part.targets[0].id)
+                    self.assertLessEqual(names, defined, path)
+
+    def test_statements(self):
+        barred = (
+            ast.AugAssign, ast.Global, ast.Try, ast.With, ast.Match, ast.AsyncFunctionDef, ast.GeneratorExp,
+            ast.Lambda, ast.Div, ast.Yield, ast.NamedExpr, ast.Assert)
+        for path, tree in trees():
+            for node in ast.walk(tree):
+                self.assertNotIsInstance(node, barred, path)
+                if isinstance(node, ast.Constant):
+                    self.assertNotIsInstance(node.value, (float, complex, bytes), path)
+            for node in tree.body:
+                kinds = (ast.ImportFrom, ast.FunctionDef, ast.ClassDef, ast.Assign, ast.Expr)
+                self.assertIsInstance(node, kinds, path)
+
+    def test_names(self):
+        for path, tree in trees():
+            imported = [part.name for node in tree.body if isinstance(node, ast.ImportFrom) for part in node.names]
+            classes = [node.name for node in tree.body if isinstance(node, ast.ClassDef)]
+            top = [node.name for node in tree.body if hasattr(node, "name")]
+            self.assertEqual(len(set(top + imported)), len(top + imported), path)
+            for function in functions(tree):
+                self.assertEqual(function.decorator_list, [])
+                if function.name.startswith("__"):
+                    self.assertIn(function.name, METHODS)
+                names = assigned(function)
+                if not function.name.startswith("__"):
+                    names.append(function.name)
+                for name in names:
+                    self.assertFalse(hasattr(builtins, name), (path, name))
+                    self.assertNotIn(name, BARRED, path)
+                for name in assigned(function):
+                    self.assertNotIn(name, imported + classes, (path, function.name))
+
+    def test_calls(self):
+        for path, tree in trees():
+            for node in ast.walk(tree):
+                if isinstance(node, ast.Name) and hasattr(builtins, node.id):
+                    self.assertIn(node.id, CALLED | NAMED, path)
+                if isinstance(node, ast.Attribute):
+                    self.assertNotIn(node.attr, ("sort", "format", "mro", "args"), path)
+
+
+if __name__ == "__main__":
+    unittest.main()

@@ -1,0 +1,1 @@
+"""Endless floors of squares and lozenges, and what surely lies in them."""
