@@ -1,4 +1,4 @@
-"""Judges the sources of the package by those rules of its language that are easily judged."""
+"""Judges the sources of the package by the rules of its language that are easily judged, some more narrowly."""
 
 import ast
 import builtins

@@ -1,0 +1,60 @@
+"""The window, and which corners have their stars in it, reckoned with integers alone."""
+
+from math import lcm
+
+from threetiles.roots import Root, surd_sign
+
+
+def gauge_of(shift):
+    """The integers (c, x, u, y, v) of a shift ((x + u * r) / c, (y + v * r) / c)."""
+    x, y = shift
+    bottom = lcm(x.bottom, y.bottom)
+    by = bottom // x.bottom
+    up = bottom // y.bottom
+    return (bottom, x.top * by, x.root * by, y.top * up, y.root * up)
+
+
+def beside(top, root, edge_top, edge_root):
+    """Whether top + root * r lies between an edge and the negative of it, on neither of them."""
+    if surd_sign(edge_top - top, edge_root - root) <= 0:
+        return False
+    return surd_sign(edge_top + top, edge_root + root) > 0
+
+
+def in_window(gauge, corner):
+    """Whether the star of a corner, less the shift of a gauge, lies in the window."""
+    bottom, x_top, x_root, y_top, y_root = gauge
+    x0, x1, x2, x3 = corner
+    # All numbers are told 2 * bottom times as great, so that there are no fractions.
+    top = 2 * (bottom * x0 - x_top)
+    root = bottom * (x3 - x1) - 2 * x_root
+    if not beside(top, root, bottom, bottom):
+        return False
+    up = -2 * (bottom * x2 + y_top)
+    up_root = bottom * (x1 + x3) - 2 * y_root
+    if not beside(up, up_root, bottom, bottom):
+        return False
+    if not beside(top + up, root + up_root, 2 * bottom, bottom):
+        return False
+    return beside(top - up, root - up_root, 2 * bottom, bottom)
+
+
+def stripe(middle, centre, size):
+    """Tuples (whole, halves, square), in all of which, with h for half of r, whole + halves * h is at most
+    size away from middle, and whole - halves * h less than 1/2 + h from centre; square is that of the former.
+    """
+    edge = Root(1, 1, 2)
+    apart = middle - centre
+    # The two numbers differ by halves * r, so halves cannot lie beyond these.
+    least = -((edge + size - apart) * Root(0, 1, 2)).whole()
+    most = ((edge + size + apart) * Root(0, 1, 2)).whole()
+    found = []
+    for halves in range(least, most + 1):
+        outer = middle - Root(0, halves, 2)
+        inner = centre + Root(0, halves, 2)
+        low = -min((size - outer).whole(), (edge - inner).whole())
+        high = min((size + outer).whole(), (edge + inner).whole())
+        for whole in range(low, high + 1):
+            off = outer - whole
+            found.append((whole, halves, off * off))
+    return found
