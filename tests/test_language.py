@@ -6,13 +6,31 @@ import unittest
 from pathlib import Path
 
 FOLDER = Path(__file__).resolve().parent.parent / "threetiles"
-LIBRARY = {"math": {"gcd", "lcm", "isqrt", "comb", "perm", "factorial"}}
+LIBRARY = {
+    "math": {"gcd", "lcm", "isqrt", "comb", "perm", "factorial"},
+    "itertools": {"product", "combinations", "permutations"},
+}
 CALLED = set(
     "len range enumerate zip min max sum abs sorted reversed int str bool list tuple dict set isinstance ord "
     "repr any all divmod".split())
 NAMED = {"ValueError", "NotImplemented", "KeyError"}
 METHODS = {
     "__init__", "__eq__", "__add__", "__radd__", "__sub__", "__rsub__", "__mul__", "__rmul__", "__neg__"}
+PLAIN = {"append", "extend", "get", "index", "insert", "items", "pop"}
+OWN = set(
+    "over less sign whole nearest turned has_corner sides has_tile tiles_at across near tiles_over around has is_empty "
+    "met led grown within let_point is_bounded corners area parted _ways".split())
+INTERFACE = {
+    "roots": "Root", "points": "is_point added taken scaled square",
+    "corners": "stepped turned mirrored greater lesser place star corner_at corner_with",
+    "tiles": "tile_corners ribbons_of", "floors": "barred Floor", "pieces": "Piece",
+    "bars": "bars press is_bars is_press", "lots": "left_of covered window lozenge tile_bounds",
+    "heaps": "heap_piece held is_held", "words": "word is_word word_in possible nearest_open",
+    "leasts": "least_lots cheapest_lot", "absents": "with_absent is_tree",
+    "ribbons": "crossing along far_along side_of side_word side_bound", "slides": "slides is_slides",
+    "copies": "heap_moved copies nearest_copy reach is_reach_lot",
+    "kinds": "kinds kind_lot surroundings share_of share_with",
+}
 BARRED = set("register mro elements open input law type typing enum id vars dir eval exec super".split())
 
 
@@ -102,6 +120,57 @@ class TestLanguage(unittest.TestCase):
                     self.assertNotIn(name, BARRED, path)
                 for name in assigned(function):
                     self.assertNotIn(name, imported + classes, (path, function.name))
+
+    def test_all_that_is_imported_is_used(self):
+        for path, tree in trees():
+            used = [node.id for node in ast.walk(tree) if isinstance(node, ast.Name)]
+            for node in tree.body:
+                if isinstance(node, ast.ImportFrom):
+                    for part in node.names:
+                        self.assertIn(part.name, used, path)
+
+    def test_no_files_import_from_each_other(self):
+        needs = {}
+        for path, tree in trees():
+            modules = [node.module for node in tree.body if isinstance(node, ast.ImportFrom)]
+            needs[path.stem] = [module.split(".")[1] for module in modules if module.startswith("threetiles.")]
+        done = set()
+        while len(done) < len(needs):
+            fresh = [name for name in needs if name not in done and set(needs[name]) <= done]
+            self.assertTrue(fresh, sorted(set(needs) - done))
+            done.update(fresh)
+
+    def test_interface_is_defined_where_it_is_listed(self):
+        for name, listed in INTERFACE.items():
+            path = FOLDER / (name + ".py")
+            if path.exists():
+                defined = [part.name for part in ast.parse(path.read_text()).body if hasattr(part, "name")]
+                self.assertLessEqual(set(listed.split()), set(defined), name)
+
+    def test_sets_stand_where_they_may(self):
+        for path, tree in trees():
+            allowed = []
+            for node in ast.walk(tree):
+                if isinstance(node, ast.Call) and isinstance(node.func, ast.Name) and node.func.id in ("len", "sorted"):
+                    allowed.extend(node.args)
+            for node in ast.walk(tree):
+                self.assertNotIsInstance(node, (ast.Set, ast.SetComp), path)
+                if isinstance(node, ast.Call) and isinstance(node.func, ast.Name) and node.func.id == "set":
+                    self.assertIn(node, allowed, path)
+
+    def test_methods_of_builtin_values(self):
+        for path, tree in trees():
+            for node in ast.walk(tree):
+                if isinstance(node, ast.Call) and isinstance(node.func, ast.Attribute):
+                    self.assertIn(node.func.attr, OWN | PLAIN, path)
+                    self.assertEqual(node.keywords, [], path)
+
+    def test_combinations_are_iterated_at_once(self):
+        for path, tree in trees():
+            heads = [node.iter for node in ast.walk(tree) if isinstance(node, (ast.For, ast.comprehension))]
+            for node in ast.walk(tree):
+                if isinstance(node, ast.Call) and isinstance(node.func, ast.Name) and node.func.id in LIBRARY["itertools"]:
+                    self.assertIn(node, heads, path)
 
     def test_calls(self):
         for path, tree in trees():

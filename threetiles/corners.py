@@ -4,6 +4,8 @@ from threetiles.errors import BadCorner, BadDirection, BadPoint
 from threetiles.points import as_roots, is_point
 from threetiles.roots import Root, is_integral
 
+ORIGIN = (0, 0, 0, 0)
+
 
 def is_corner(thing):
     """Whether a thing is a corner."""

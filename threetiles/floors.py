@@ -1,11 +1,11 @@
 """Floors: which corners and tiles they have, and what lies about these."""
 
-from threetiles.corners import check_corner, joined, step
-from threetiles.errors import BadPoint, BadSide, BadSize, Barred, NoCorner, NoTile
+from threetiles.corners import check_corner, step
+from threetiles.errors import BadFloor, BadPoint, BadSide, BadSize, Barred, NoCorner, NoTile
 from threetiles.points import as_roots, is_point
 from threetiles.roots import Root, is_integral
 from threetiles.tiles import covers, tile_between, tile_corners
-from threetiles.windows import gauge_of, in_window, stripe
+from threetiles.windows import corners_about, gauge_of, in_window
 
 TILE_WAYS = ((0, 1), (0, 2), (0, 3), (1, 2), (1, 3), (2, 3))
 
@@ -108,20 +108,11 @@ class Floor:
         """The ascending list of the corners whose places are at most size away from a point."""
         check_point(point)
         check_size(size, 12)
-        x, y = as_roots(point)
-        columns = stripe(x, self.shift[0], size)
-        # The star of a corner has -x2 where its place has x2, so the shift is turned over, too.
-        rows = stripe(y, -self.shift[1], size)
-        limit = Root(size * size, 0, 1)
-        found = []
-        for x0, difference, across in columns:
-            for x2, both, along in rows:
-                corner = joined(x0, difference, x2, both)
-                if corner is None or limit.less(across + along):
-                    continue
-                if in_window(self._gauge, corner):
-                    found.append(corner)
-        return sorted(found)
+        edge = Root(1, 1, 2)
+        lows = (self.shift[0] - edge, self.shift[1] - edge)
+        highs = (self.shift[0] + edge, self.shift[1] + edge)
+        found = corners_about(as_roots(point), size, lows, highs)
+        return sorted([corner for corner, square in found if in_window(self._gauge, corner)])
 
     def tiles_over(self, point):
         """The ascending list of the tiles in whose shape, rim and all, a point lies."""
@@ -154,3 +145,9 @@ class Floor:
             last = sorted(fresh)
             rings.append(last)
         return rings
+
+
+def check_floor(floor):
+    """Raises what is due for what is no Floor."""
+    if not isinstance(floor, Floor):
+        raise BadFloor(floor)

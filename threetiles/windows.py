@@ -1,7 +1,8 @@
-"""The window, and which corners have their stars in it, reckoned with integers alone."""
+"""Which corners have their stars in the window, reckoned with integers alone, and which have them in a box."""
 
 from math import lcm
 
+from threetiles.corners import joined
 from threetiles.roots import Root, surd_sign
 
 
@@ -39,22 +40,40 @@ def in_window(gauge, corner):
     return beside(top - up, root - up_root, 2 * bottom, bottom)
 
 
-def stripe(middle, centre, size):
+def stripe(middle, size, low, high):
     """Tuples (whole, halves, square), in all of which, with h for half of r, whole + halves * h is at most
-    size away from middle, and whole - halves * h less than 1/2 + h from centre; square is that of the former.
+    size away from middle, and whole - halves * h from low to high; square is that of how far away the former is.
     """
-    edge = Root(1, 1, 2)
-    apart = middle - centre
     # The two numbers differ by halves * r, so halves cannot lie beyond these.
-    least = -((edge + size - apart) * Root(0, 1, 2)).whole()
-    most = ((edge + size + apart) * Root(0, 1, 2)).whole()
+    least = -((high + size - middle) * Root(0, 1, 2)).whole()
+    most = ((middle + size - low) * Root(0, 1, 2)).whole()
     found = []
     for halves in range(least, most + 1):
         outer = middle - Root(0, halves, 2)
-        inner = centre + Root(0, halves, 2)
-        low = -min((size - outer).whole(), (edge - inner).whole())
-        high = min((size + outer).whole(), (edge + inner).whole())
-        for whole in range(low, high + 1):
+        inner = Root(0, halves, 2)
+        first = -min((size - outer).whole(), (-low - inner).whole())
+        last = min((size + outer).whole(), (high + inner).whole())
+        for whole in range(first, last + 1):
             off = outer - whole
             found.append((whole, halves, off * off))
+    return found
+
+
+def corners_about(point, size, lows, highs):
+    """Tuples (corner, square), of all corners whose places are at most size away from a point, and the numbers of
+    whose stars are from lows to highs, x and y; square is that of the distance. All these numbers are Roots.
+    """
+    columns = stripe(point[0], size, lows[0], highs[0])
+    # The star of a corner has -x2 where its place has x2, so the ends are turned over, too.
+    rows = stripe(point[1], size, -highs[1], -lows[1])
+    limit = Root(size * size, 0, 1)
+    found = []
+    for x0, difference, across in columns:
+        for x2, both, along in rows:
+            corner = joined(x0, difference, x2, both)
+            if corner is None:
+                continue
+            square = across + along
+            if not limit.less(square):
+                found.append((corner, square))
     return found
