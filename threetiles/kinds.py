@@ -1,0 +1,74 @@
+"""Kinds of corners, and how often these, surroundings, and heaps come."""
+
+from threetiles.corners import ORIGIN, is_direction, star, step
+from threetiles.errors import BadKind, BadSize
+from threetiles.heaps import heap_piece, tiled_piece
+from threetiles.lots import are_apart, lozenge, window, without
+from threetiles.points import scaled
+from threetiles.roots import Root, is_integral
+
+
+def check_kind(kind):
+    """Raises what is due for what is no ascending tuple of unlike directions."""
+    if not isinstance(kind, tuple) or not all([is_direction(d) for d in kind]) or list(kind) != sorted(set(kind)):
+        raise BadKind(kind)
+
+
+def kind_pieces():
+    """A list of (kind, piece): pieces of the window, at the points of which corners are of a kind, with repeats."""
+    found = [((), window())]
+    for d in range(8):
+        side = window().led(scaled(-1, star(step(ORIGIN, d, 1))))
+        parts = []
+        for kind, piece in found:
+            if not are_apart(piece, side):
+                parts.append((kind + (d,), piece.met(side)))
+            for part in without(piece, side):
+                parts.append((kind, part))
+        found = parts
+    return found
+
+
+def share(area):
+    """What share of the window an area is."""
+    return area.over(window().area())
+
+
+def kinds():
+    """The ascending list of all (kind, share)."""
+    shares = {}
+    for kind, piece in kind_pieces():
+        shares[kind] = shares.get(kind, 0) + share(piece.area())
+    return [(kind, shares[kind]) for kind in sorted(shares)]
+
+
+def kind_lot(kind):
+    """A list of pieces that have the points of the window at which corners are of a kind."""
+    check_kind(kind)
+    return [piece for other, piece in kind_pieces() if other == kind]
+
+
+def surrounding(kind):
+    """The surrounding by one step of a corner of a kind."""
+    return tuple(sorted([ORIGIN] + [step(ORIGIN, d, 1) for d in kind]))
+
+
+def surroundings(steps):
+    """The ascending list of all (surrounding, share) by no step or by one."""
+    if not is_integral(steps) or not 0 <= steps <= 1:
+        raise BadSize(steps)
+    if steps == 0:
+        return [(surrounding(()), Root(1, 0, 1))]
+    # No two kinds have one surrounding, so the shares are not asked for their order.
+    return sorted([(surrounding(kind), part) for kind, part in kinds()])
+
+
+def share_of(heap):
+    """The share of the corners by which a heap, moved, lies in a floor."""
+    return share(heap_piece(heap).grown(-1).met(window()).area())
+
+
+def share_with(heap, tile):
+    """The share, of the floors with a heap, of those that have a tile."""
+    piece = tiled_piece(heap)
+    return piece.met(lozenge(tile)).area().over(piece.area())
