@@ -357,6 +357,13 @@ class TestPossible(unittest.TestCase):
                 else:
                     self.assertEqual(word(heap, tile)[0], "open")
 
+    def test_stars_all_around(self):
+        for corner in [(9, 0, 0, 0), (0, 9, 0, 0), (0, 0, 9, 0), (0, 0, 0, 9), (-9, 0, 0, 0), (0, -9, 0, 0), (0, 0, -9, 0),
+                       (0, 0, 0, -9)]:
+            heap = [(corner, 0, 2)]
+            expected = [(tile, said) for _, far, tile, said in open_and_sure(heap, place(corner), 1)]
+            self.assertEqual(possible(heap, place(corner), 1), expected)
+
     def test_size_0(self):
         heap = [(ZERO, 1, 3)]
         told = possible(heap, (0, 0), 0)

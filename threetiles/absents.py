@@ -22,33 +22,33 @@ def check_absent(absent):
             raise BadAbsent(index)
 
 
-def next_split(piece, shapes, above):
-    """The index of a tile that floors with shifts in a piece have, one that all have if there is such, or None;
-    shapes are the bounds of the tiles, above the indexes of those that are split already.
+def next_split(piece, shapes):
+    """The index of the bounds of a tile that floors with shifts in a piece have, of one that all have if there is
+    such, or None if they have no one.
     """
     some = None
     for k, bounds in enumerate(shapes):
-        if k not in above:
-            told = word_by(piece, bounds)
-            # All branches of such a split end at once.
-            if told == "sure":
-                return k
-            if told == "open" and some is None:
-                some = k
+        told = word_by(piece, bounds)
+        # All branches of such a split end at once.
+        if told == "sure":
+            return k
+        if told == "open" and some is None:
+            some = k
     return some
 
 
-def grown_paper(rows, shapes, above):
+def grown_paper(rows, shapes):
     """As with_absent, for the floors with shifts that a row of bounds lets."""
     piece = Piece(rows)
     if piece.is_empty():
         return ("tree", ("bars", bars(rows)))
-    k = next_split(piece, shapes, above)
+    # Beyond a side of a tile no floor has the tile, so none is split twice.
+    k = next_split(piece, shapes)
     if k is None:
         return ("floor", piece.let_point())
     branches = []
     for bound in shapes[k]:
-        kind, paper = grown_paper(rows + [opposite(bound)], shapes, above + (k,))
+        kind, paper = grown_paper(rows + [opposite(bound)], shapes)
         if kind == "floor":
             return (kind, paper)
         branches.append(paper)
@@ -59,7 +59,7 @@ def with_absent(heap, absent):
     """A floor that has all of a heap and none of some absent tiles, or a tree that shows that there is none."""
     check_heap(heap)
     check_absent(absent)
-    return grown_paper(row_bounds(heap), [tile_bounds(tile) for tile in absent], ())
+    return grown_paper(row_bounds(heap), [tile_bounds(tile) for tile in absent])
 
 
 def is_grown(rows, shapes, above, thing):

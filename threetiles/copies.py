@@ -1,7 +1,7 @@
 """Copies of a heap in floors, and how far off there always is one."""
 
 from threetiles.corners import check_corner, is_corner, place, star
-from threetiles.floors import check_floor, check_point, check_size
+from threetiles.floors import check_floor, check_size
 from threetiles.heaps import check_heap, check_tiled, tiled_piece
 from threetiles.lots import left_by, window
 from threetiles.points import scaled, square, taken
@@ -40,18 +40,11 @@ def has_all(floor, tiles):
     return True
 
 
-def check_search(floor, heap, point, size):
-    """Raises what is due for arguments of a search for copies."""
+def copies(floor, heap, point, size):
+    """The ascending list of the copies of a heap in a floor with their first corners near a point."""
     check_floor(floor)
     check_heap(heap)
     check_tiled(heap)
-    check_point(point)
-    check_size(size, 12)
-
-
-def copies(floor, heap, point, size):
-    """The ascending list of the copies of a heap in a floor with their first corners near a point."""
-    check_search(floor, heap, point, size)
     first = heap[0][0]
     found = []
     # The first corner of a copy is a corner of the floor; these come ascending, and so do their differences.
@@ -84,11 +77,6 @@ def copy_there(here, corner):
     return here.led(scaled(-1, star(corner)))
 
 
-def is_within(square_far, size):
-    """Whether the square of a distance is that of one of at most a size."""
-    return not (square_far - size * size).sign() > 0
-
-
 def reach(heap, most):
     """How far off there always is a copy of a heap, if it is at most so far, or a floor in which there is none."""
     here = copy_here(heap, tiled_piece(heap))
@@ -98,7 +86,8 @@ def reach(heap, most):
     lot = []
     for size in range(most + 1):
         for corner, far in ways:
-            if is_within(far, size) and (size == 0 or not is_within(far, size - 1)):
+            # Those that were met already, at a lesser size, leave all as it is.
+            if (far - size * size).sign() <= 0:
                 parts = left_by(left, [copy_there(here, corner)])
                 if parts != left:
                     lot.append(corner)

@@ -65,7 +65,8 @@ def surroundings(steps):
 
 def share_of(heap):
     """The share of the corners by which a heap, moved, lies in a floor."""
-    return share(heap_piece(heap).grown(-1).met(window()).area())
+    # The star of a corner less the shift is to lie in the window, and so is the shift less the star.
+    return share(heap_piece(heap).met(window()).area())
 
 
 def share_with(heap, tile):

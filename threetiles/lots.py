@@ -30,8 +30,8 @@ def check_lot(lot):
 
 
 def are_apart(one, other):
-    """Whether two bounded pieces have no point in common."""
-    if one.is_empty() or other.is_empty():
+    """Whether a bounded piece with points has none in common with another bounded one."""
+    if other.is_empty():
         return True
     # Of the lines that part two pieces one runs along a side of one of them.
     for d, number in enumerate(one.bounds):
@@ -53,9 +53,9 @@ def sides_of(piece):
 
 
 def without(piece, other):
-    """Pieces that have all points of a bounded piece that do not lie in another one, but for points on lines."""
+    """Pieces that have what another piece leaves of a bounded one with points, but for points on lines."""
     if are_apart(piece, other):
-        return [] if piece.is_empty() else [piece]
+        return [piece]
     found = []
     rest = piece
     for d, number in sides_of(other):
@@ -66,7 +66,7 @@ def without(piece, other):
 
 
 def left_by(pieces, lot):
-    """As left_of, for a list of pieces no two of which have a common point."""
+    """As left_of, for a list of pieces with points, no two of which have a common one."""
     left = pieces
     for other in lot:
         parts = []

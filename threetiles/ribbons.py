@@ -10,7 +10,7 @@ from threetiles.lots import ALONG
 from threetiles.pieces import Piece, rows_of
 from threetiles.points import added, scaled
 from threetiles.roots import Root, is_integral
-from threetiles.tiles import check_tile, ribbons_of
+from threetiles.tiles import ribbons_of
 
 MOST_ALONG = 400
 
@@ -83,7 +83,6 @@ def crossing(floor, one, other):
 
 def check_on(floor, ribbon, tile):
     """Raises what is due for what is no tile that a floor's ribbon has."""
-    check_tile(tile)
     if ribbon not in ribbons_of(tile) or not floor.has_tile(tile):
         raise NoTile(tile)
 

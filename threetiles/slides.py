@@ -102,11 +102,11 @@ def turned_over(orders, triple):
 
 
 def first_to_turn(orders, turns):
-    """The place in a row of turns of the first one that can be done, of those with the least time."""
-    for at, (time, triple) in enumerate(turns):
-        if time == turns[0][0] and can_turn(orders, triple):
-            return at
-    return 0
+    """The place in a row of turns of the first one that can be done; of those with the least time some one can."""
+    at = 0
+    while not can_turn(orders, turns[at][1]):
+        at = at + 1
+    return at
 
 
 def slides(one, other, ribbons):
