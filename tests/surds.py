@@ -4,6 +4,7 @@ A polygon is the list of the corners of a convex set, going round to
 the left; [] is a set without an area. Bounds are tuples (d, b) with a Surd b here, and let points on the rim, too.
 """
 
+from functools import lru_cache
 from math import gcd
 
 VECTORS = [(1, 0), (1, 1), (0, 1), (-1, 1), (-1, 0), (-1, -1), (0, -1), (1, -1)]
@@ -144,6 +145,7 @@ def lozenge_of(tile):
     return corners
 
 
+@lru_cache(maxsize=100000)
 def sides_of_lozenge(tile):
     """The four bounds of the sides of a tile's lozenge, ascending by direction."""
     polygon = lozenge_of(tile)

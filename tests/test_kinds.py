@@ -67,7 +67,11 @@ class TestKinds(unittest.TestCase):
     def test_all_with_their_shares(self):
         told = kinds()
         self.assertIs(type(told), list)
-        areas = {kind: kind_area(kind) for kind in all_tuples()}
+        areas = {}
+        for kind in all_tuples():
+            # Turned by an eighth, directions have their stars turned by three eighths, as the window may be.
+            least = min([tuple(sorted([(d + more) % 8 for d in kind])) for more in range(8)])
+            areas[kind] = areas[least] if least in areas else kind_area(kind)
         expected = [kind for kind in sorted(areas) if areas[kind] > 0]
         self.assertEqual([kind for kind, share in told], expected)
         for part in told:
