@@ -1,10 +1,10 @@
 """Kinds of corners, and how often these, surroundings, and heaps come."""
 
-from threetiles.corners import ORIGIN, is_direction, star, step
+from threetiles.corners import ORIGIN, is_direction, step
+from threetiles.cuts import lots_by_kind, share, total_area
 from threetiles.errors import BadKind, BadSize
 from threetiles.heaps import heap_piece, tiled_piece
-from threetiles.lots import are_apart, lozenge, window, without
-from threetiles.points import scaled
+from threetiles.lots import lozenge, window
 from threetiles.roots import Root, is_integral
 
 
@@ -14,38 +14,24 @@ def check_kind(kind):
         raise BadKind(kind)
 
 
-def kind_pieces():
-    """A list of (kind, piece): pieces of the window, at the points of which corners are of a kind, with repeats."""
-    found = [((), window())]
-    for d in range(8):
-        side = window().led(scaled(-1, star(step(ORIGIN, d, 1))))
-        parts = []
-        for kind, piece in found:
-            if not are_apart(piece, side):
-                parts.append((kind + (d,), piece.met(side)))
-            for part in without(piece, side):
-                parts.append((kind, part))
-        found = parts
-    return found
-
-
-def share(area):
-    """What share of the window an area is."""
-    return area.over(window().area())
+def kind_lots():
+    """A list of (kind, lot): the parts of the window of points at which corners are of unlike kinds."""
+    return lots_by_kind([window()], ORIGIN)
 
 
 def kinds():
     """The ascending list of all (kind, share)."""
-    shares = {}
-    for kind, piece in kind_pieces():
-        shares[kind] = shares.get(kind, 0) + share(piece.area())
-    return [(kind, shares[kind]) for kind in sorted(shares)]
+    # No kind comes twice, so the shares are not asked for their order.
+    return sorted([(kind, share(total_area(lot))) for kind, lot in kind_lots()])
 
 
 def kind_lot(kind):
     """A list of pieces that have the points of the window at which corners are of a kind."""
     check_kind(kind)
-    return [piece for other, piece in kind_pieces() if other == kind]
+    for other, lot in kind_lots():
+        if other == kind:
+            return lot
+    return []
 
 
 def surrounding(kind):
