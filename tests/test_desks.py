@@ -159,7 +159,12 @@ class TestKeeping(Kept):
                 desk.deny(tile)
             self.assertEqual(caught.exception.limit, 6)
             self.assertIn(desk.word(tile), ("sure", "never", "open"))
-        # What is kept is told first.
+        # What is no tile is told first, then what is kept.
+        for thing in (None, ZERO, [ZERO, 0, 1], (ZERO, 1, 0)):
+            for deed in (desk.tell, desk.deny, desk.word):
+                with self.assertRaises(BadTile) as caught:
+                    deed(thing)
+                self.assertIs(caught.exception.tile, thing)
         for tile in heap[:3] + absent:
             for deed in (desk.tell, desk.deny):
                 with self.assertRaises(Known) as caught:

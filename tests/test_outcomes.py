@@ -159,6 +159,23 @@ class TestIsOutcomes(unittest.TestCase):
                     self.assertIs(is_outcomes(program, paper), False)
                 self.assertIs(is_outcomes(program, lot), False)
 
+    def test_pieces_with_common_points(self):
+        # The areas sum to that of the window, but half of it is left out.
+        for d in range(8):
+            one, other = window().parted((d, 0))
+            self.assertIs(is_outcomes((), [(one, (ZERO, 0, 0)), (other, (ZERO, 0, 0))]), True)
+            for half in (one, other):
+                self.assertIs(is_outcomes((), [(half, (ZERO, 0, 0)), (half, (ZERO, 0, 0))]), False)
+        quarters = [part for half in window().parted((0, 0)) for part in half.parted((2, 0))]
+        for at in range(4):
+            paper = [(piece, (ZERO, 0, 0)) for piece in quarters[:at] + quarters[at + 1:] + [quarters[at - 1]]]
+            self.assertIs(is_outcomes((), paper), False)
+
+    def test_wrong_programs(self):
+        for thing in walking.bad_programs():
+            with self.assertRaises(BadProgram):
+                is_outcomes(thing, [])
+
     def test_spoiled_outcomes(self):
         for program in [(), (GO,), PROGRAMS[7]]:
             told = outcomes(program)

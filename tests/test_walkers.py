@@ -190,6 +190,19 @@ class TestIsAlike(unittest.TestCase):
                 self.assertIs(is_alike(one, other, ("alike", lot)), False)
                 self.assertIs(is_alike(one, other, lot), False)
 
+    def test_pieces_with_common_points(self):
+        for d in range(8):
+            one, other = window().parted((d, 0))
+            self.assertIs(is_alike((), (turn(0),), ("alike", [one, other])), True)
+            for half in (one, other):
+                self.assertIs(is_alike((), (turn(0),), ("alike", [half, half])), False)
+
+    def test_wrong_programs(self):
+        for thing in walking.bad_programs():
+            for pair in ((thing, ()), ((), thing)):
+                with self.assertRaises(BadProgram):
+                    is_alike(*pair, ("alike", [window()]))
+
     def test_spoiled_shifts(self):
         for one, other in APART:
             told = alike(one, other)

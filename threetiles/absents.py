@@ -7,7 +7,7 @@ from threetiles.heaps import check_heap, is_paper, row_bounds
 from threetiles.lots import tile_bounds
 from threetiles.pieces import Piece
 from threetiles.roots import is_integral
-from threetiles.tiles import is_tile
+from threetiles.tiles import wrong_in_row
 from threetiles.words import word_by
 
 MOST_ABSENT = 6
@@ -15,11 +15,9 @@ MOST_ABSENT = 6
 
 def check_absent(absent):
     """Raises what is due for what is no row of at most 6 tiles."""
-    if not isinstance(absent, (list, tuple)) or len(absent) > MOST_ABSENT:
-        raise BadAbsent(-1)
-    for index, tile in enumerate(absent):
-        if not is_tile(tile):
-            raise BadAbsent(index)
+    index = wrong_in_row(absent, MOST_ABSENT)
+    if index is not None:
+        raise BadAbsent(index)
 
 
 def next_split(piece, shapes):

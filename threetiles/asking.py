@@ -5,18 +5,16 @@ from threetiles.errors import BadAsked
 from threetiles.heaps import held_piece, is_paper
 from threetiles.lots import tile_bounds
 from threetiles.roots import is_integral
-from threetiles.tiles import is_tile
+from threetiles.tiles import wrong_in_row
 
 MOST_ASKED = 5
 
 
 def check_asked(tiles):
     """Raises what is due for what is no row of at most 5 tiles to ask for."""
-    if not isinstance(tiles, (list, tuple)) or len(tiles) > MOST_ASKED:
-        raise BadAsked(-1)
-    for index, tile in enumerate(tiles):
-        if not is_tile(tile):
-            raise BadAsked(index)
+    index = wrong_in_row(tiles, MOST_ASKED)
+    if index is not None:
+        raise BadAsked(index)
 
 
 def cases_of(heap, tiles, tile):

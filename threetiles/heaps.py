@@ -6,18 +6,16 @@ from threetiles.floors import barred
 from threetiles.lots import tile_bounds
 from threetiles.pieces import Piece
 from threetiles.points import is_point
-from threetiles.tiles import is_tile
+from threetiles.tiles import wrong_in_row
 
 MOST_TILES = 40
 
 
 def check_heap(heap):
     """Raises what is due for what is no row of at most 40 tiles."""
-    if not isinstance(heap, (list, tuple)) or len(heap) > MOST_TILES:
-        raise BadHeap(-1)
-    for index, tile in enumerate(heap):
-        if not is_tile(tile):
-            raise BadHeap(index)
+    index = wrong_in_row(heap, MOST_TILES)
+    if index is not None:
+        raise BadHeap(index)
 
 
 def check_tiled(heap):

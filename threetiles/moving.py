@@ -2,7 +2,7 @@
 
 from threetiles.corners import corner_with, place, star
 from threetiles.errors import BadSize
-from threetiles.floors import TILE_WAYS, Floor, check_floor, check_point, check_size
+from threetiles.floors import TILE_WAYS, Floor, check_floor
 from threetiles.points import added, square, taken
 from threetiles.roots import Root, is_integral
 
@@ -27,8 +27,6 @@ def parting_tile(one, other, point, most):
     """The tile with the nearest own corner that just one of two floors has, of these the least, or None."""
     check_floor(one)
     check_floor(other)
-    check_point(point)
-    check_size(most, 12)
     nearest = None
     least = None
     # Corners come ascending, so of those that are equally near the first one stays.

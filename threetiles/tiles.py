@@ -20,6 +20,18 @@ def check_tile(tile):
         raise BadTile(tile)
 
 
+def wrong_in_row(row, most):
+    """The index of the first item of a row that is no tile, -1 for what is no row of at most so many things, or None
+    if there is nothing wrong.
+    """
+    if not isinstance(row, (list, tuple)) or len(row) > most:
+        return -1
+    for index, tile in enumerate(row):
+        if not is_tile(tile):
+            return index
+    return None
+
+
 def tile_corners(tile):
     """The ascending tuple of the four corners of a tile."""
     check_tile(tile)
