@@ -13,7 +13,7 @@ from walking import ALL_AROUND, GO, LONG, ONE_MORE, PROGRAMS, THERE, TOO_LONG, Z
 
 from threetiles.errors import BadProgram, FloorError, TooMany
 from threetiles.floors import Floor
-from threetiles.lots import window
+from threetiles.lots import covered, left_of, window
 from threetiles.outcomes import ends
 from threetiles.pieces import Piece
 from threetiles.programs import walk
@@ -105,6 +105,15 @@ class TestAlike(unittest.TestCase):
     def test_itself(self):
         for program in PROGRAMS + LONG[:1]:
             self.assert_right(program, program, "alike")
+
+    def test_lots_may_be_passed_on(self):
+        # A lot has at most 400 pieces, however the walks' answers part the window.
+        for program in PROGRAMS[7:12] + LONG + [walking.JUST_400]:
+            lot = alike(program, program)[1]
+            self.assertLessEqual(len(lot), 400)
+            self.assertTrue(covered(window(), lot))
+            self.assertEqual(left_of(window(), lot), [])
+            self.assertFalse(covered(window(), lot[1:]))
 
     def test_steps_do_not_count(self):
         # One goes there and back, the other stays: the numbers gone are unlike.

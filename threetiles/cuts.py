@@ -1,8 +1,8 @@
-"""Lots of pieces cut in two: into what bounds let, and what they leave, but for points on lines."""
+"""Lots of pieces cut in two, into what bounds let and what they leave, and joined again, but for points on lines."""
 
 from threetiles.corners import star, step
 from threetiles.lots import window
-from threetiles.pieces import rows_of
+from threetiles.pieces import Piece, rows_of
 from threetiles.points import scaled
 from threetiles.roots import Root
 from threetiles.words import word_by
@@ -60,6 +60,54 @@ def lots_by_kind(lot, way):
     found = [((), lot)]
     for d in range(8):
         found = cut_in_all(found, sight(step(way, d, 1)), (d,))
+    return found
+
+
+def are_beside(one, other):
+    """Whether a line that parts two bounded pieces with points is a rim of both."""
+    for d, number in enumerate(one.bounds):
+        if number == -other.bounds[(d + 4) % 8]:
+            return True
+    return False
+
+
+def joined(one, other):
+    """The piece of just the points of two bounded ones with points, none of them common, or None if there is none."""
+    if not are_beside(one, other):
+        return None
+    bounds = []
+    for d, number in enumerate(one.bounds):
+        far = other.bounds[d]
+        bounds.append((d, far if number.less(far) else number))
+    whole = Piece(bounds)
+    return whole if whole.area() == one.area() + other.area() else None
+
+
+def joined_lot(lot):
+    """A lot with the same points, but of fewer pieces where some make up one; no two have common points."""
+    found = []
+    for piece in lot:
+        at = 0
+        while at < len(found):
+            whole = joined(piece, found[at])
+            if whole is None:
+                at = at + 1
+            else:
+                # What was passed by may go together with the greater piece.
+                piece = whole
+                found.pop(at)
+                at = 0
+        found.append(piece)
+    return found
+
+
+def lots_by_key(keyed):
+    """The dict from the keys of a list of (key, lot), which may come again, to all pieces of their lots."""
+    found = {}
+    for key, lot in keyed:
+        if key not in found:
+            found[key] = []
+        found[key].extend(lot)
     return found
 
 

@@ -3,7 +3,7 @@
 from itertools import combinations
 
 from threetiles.corners import ORIGIN, is_corner, place
-from threetiles.cuts import cut_lot, lots_by_kind, share, sight, total_area
+from threetiles.cuts import cut_lot, joined_lot, lots_by_key, lots_by_kind, share, sight, total_area
 from threetiles.errors import TooMany
 from threetiles.lots import are_apart, window
 from threetiles.pieces import Piece
@@ -53,8 +53,9 @@ def branches_of(program):
 def outcomes(program):
     """A list of (piece, outcome) that has all points of the window, but for some lines."""
     found = []
-    for lot, walker in branches_of(program):
-        found.extend([(piece, walker[:3]) for piece in lot])
+    lots = lots_by_key([(walker[:3], lot) for lot, walker in branches_of(program)])
+    for outcome, lot in lots.items():
+        found.extend([(piece, outcome) for piece in joined_lot(lot)])
     return found
 
 
@@ -102,10 +103,8 @@ def is_outcomes(program, thing):
 
 def shares_by_key(keyed):
     """The dict from the keys of a list of (key, lot), which may come again, to their shares."""
-    areas = {}
-    for key, lot in keyed:
-        areas[key] = areas.get(key, 0) + total_area(lot)
-    return {key: share(areas[key]) for key in areas}
+    lots = lots_by_key(keyed)
+    return {key: share(total_area(lots[key])) for key in lots}
 
 
 def ends(program):

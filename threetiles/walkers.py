@@ -1,7 +1,7 @@
 """Whether walkers always end alike, come home, and how often they meet."""
 
 from threetiles.corners import ORIGIN
-from threetiles.cuts import share, total_area
+from threetiles.cuts import joined_lot, lots_by_key, share, total_area
 from threetiles.floors import Floor
 from threetiles.heaps import is_paper, is_shift
 from threetiles.lots import window
@@ -26,12 +26,14 @@ def pair_branches(one, other):
 
 def alike(one, other):
     """A lot on the pieces of which two programs end alike, or a shift of a floor in which they do not."""
-    both = pair_branches(one, other)
-    found = []
-    for lot, first, second in both:
+    keyed = []
+    for lot, first, second in pair_branches(one, other):
         if first[:2] != second[:2]:
             return ("apart", shift_at(lot))
-        found.extend(lot)
+        keyed.append((first[:2], lot))
+    found = []
+    for end, lot in lots_by_key(keyed).items():
+        found.extend(joined_lot(lot))
     return ("alike", found)
 
 
